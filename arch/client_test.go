@@ -253,8 +253,29 @@ func TestDeleteOfAStagedBlob(t *testing.T) {
 		t.Error(a.Jobs(), a.Idle(), a.Cat().Tombs())
 	}
 	settle(t, a)
-	if places, records := recordsOf(a, api.Tomb); len(places) != 3 || records[0].Key != "a" || records[0].Gen != 3 {
+	places, records := recordsOf(a, api.Tomb)
+	if len(places) != 3 || records[0].Key != "a" || records[0].Gen != 3 {
 		t.Error(places, records)
+	}
+	if carts := cartsOf(places); !slices.Equal(carts, []int{0, 1, 2}) { // the Writes of the Flush take no room any more
+		t.Error(carts)
+	}
+}
+
+// TestDeletingRemovesRequests: no drive moves for a job that has ended.
+func TestDeletingRemovesRequests(t *testing.T) {
+	a := settled(t, twelve(), "a", "xyz")
+	for n := range 10 {
+		does(t, a, retire(n), api.OK) // two cartridges are too few for tombstones
+	}
+	a.Do(recall("a"))
+	ticks(t, a, 1)
+	stands(t, a, 0, 0)
+	does(t, a, remove("a"), api.OK)
+	ticks(t, a, 9)
+	stands(t, a, 0, 0)
+	if a.Jobs() != 0 {
+		t.Error(a.Jobs())
 	}
 }
 

@@ -74,7 +74,6 @@ func (a *Arch) beginReading(j *job, slots []int) {
 	for _, slot := range slots {
 		a.requestRead(j, slot)
 	}
-	a.proceedIfDone(j.number)
 }
 
 func (a *Arch) requestRead(j *job, slot int) {
@@ -98,14 +97,10 @@ func (a *Arch) carryOut(x api.Ask) {
 	if x.Op == api.Read {
 		a.read(j, x)
 	} else {
-		a.append(j, x)
+		a.appendRecord(j, x)
 	}
-	a.proceedIfDone(x.Job)
-}
-
-// proceedIfDone goes by the number, because a job may have ended meanwhile.
-func (a *Arch) proceedIfDone(number int) {
-	if j := a.job(number); j != nil && j.left == 0 {
+	// The job may have ended meanwhile, for lack of a cartridge.
+	if j.left == 0 && a.job(x.Job) != nil {
 		j.proceed(j)
 	}
 }

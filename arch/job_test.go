@@ -153,6 +153,21 @@ func TestACartridgeIsLostDuringAFlush(t *testing.T) {
 	}
 }
 
+// TestOneCartridgeElsewhereSuffices: there is exactly one that the group does not use yet.
+func TestOneCartridgeElsewhereSuffices(t *testing.T) {
+	c := twelve()
+	c.Carts = 11
+	a := build(t, c)
+	does(t, a, put("a", "xyz"), api.OK)
+	ticks(t, a, 1)
+	does(t, a, lose(6), api.OK)
+	settle(t, a)
+	wellStored(t, a, "a", "xyz")
+	if e := entry(t, a, "a"); e.Gen != 1 || e.Places[6].Cart != 10 {
+		t.Error(e)
+	}
+}
+
 // TestElsewhereIsNoCartridgeOfTheGroup: of another group it may be.
 func TestElsewhereIsNoCartridgeOfTheGroup(t *testing.T) {
 	c := twelve()

@@ -98,8 +98,8 @@ func (a *Arch) requestWrite(j *job, slot, n int) {
 	a.request(j, api.Write, j.places[slot], slot)
 }
 
-// append writes the record of a slot, or requests to write it elsewhere if that fails.
-func (a *Arch) append(j *job, x api.Ask) {
+// appendRecord writes the record of a slot, or requests to write it elsewhere if that fails.
+func (a *Arch) appendRecord(j *job, x api.Ask) {
 	b, _ := label.Encode(j.records[x.Slot])
 	pos, e := a.library.Append(x.Cart, b)
 	if e == api.OK {

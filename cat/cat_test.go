@@ -294,7 +294,7 @@ func TestEntriesAreSorted(t *testing.T) {
 func TestMemory(t *testing.T) {
 	staged, laid := put("a", "xyz"), placed("b", 1, 1)
 	c := after(t, gen("", 1), staged, laid)
-	want := c.Notes()
+	want := []api.Note{put("a", "xyz"), gen("", 1), placed("b", 1, 1)}
 	spoil := func(data []byte, places []api.Place) {
 		for i := range data {
 			data[i]++
@@ -315,6 +315,17 @@ func TestMemory(t *testing.T) {
 	if got := c.Notes(); !slices.EqualFunc(got, want, jour.Same) {
 		t.Errorf("%+v, want %+v", got, want)
 	}
+}
+
+// TestACatalogThatNewDidNotMake is an empty one.
+func TestACatalogThatNewDidNotMake(t *testing.T) {
+	var c cat.Catalog
+	for _, n := range []api.Note{gen("", 1), placed("a", 1, 0), retire(3), put("b", "x"), gen("b", 2)} {
+		if e := c.Apply(n); e != api.OK {
+			t.Errorf("%+v: %d", n, e)
+		}
+	}
+	notes(t, &c, put("b", "x"), gen("b", 2), placed("a", 1, 0), retire(3))
 }
 
 func TestNilCatalog(t *testing.T) {

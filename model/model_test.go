@@ -96,6 +96,14 @@ func TestBytesAreCopied(t *testing.T) {
 	gets(t, m, "a", "abc")
 }
 
+// TestAModelThatNewDidNotMake is an empty one.
+func TestAModelThatNewDidNotMake(t *testing.T) {
+	var m model.Model
+	does(t, m.Delete("a"), api.ErrNone)
+	does(t, m.Put("a", []byte("x")), api.OK)
+	gets(t, &m, "a", "x")
+}
+
 func TestNilModel(t *testing.T) {
 	var m *model.Model
 	does(t, m.Put("", nil), api.ErrArg)
